@@ -1,0 +1,1 @@
+"""Pullsafe: devices on a bus that are plugged and pulled."""
