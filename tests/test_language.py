@@ -17,7 +17,15 @@ INTERFACE = {
     ),
     "protocols": ("is_protocol", "ready", "after"),
     "proving": ("verdict", "run_holds", "grounds", "grounds_hold"),
+    "webs": ("is_web", "is_habits", "allowed", "lawful", "way", "orders", "habits_of", "same", "web_of"),
+    "buses": ("Bus",),
+    "texts": ("printed", "parse"),
 }
+
+BUS_METHODS = (
+    "__init__", "plug", "pull", "names", "at", "driver", "drop", "drivers", "bound", "send", "waiting", "told", "taken",
+    "go", "link", "serials", "kept", "run", "copy", "__eq__",
+)
 
 MAY_CALL = (
     "len range enumerate zip min max sum abs sorted reversed int str bool list tuple dict set isinstance ord repr "
@@ -33,7 +41,11 @@ BARRED_NAMES = "mro elements open input law version_info with_traceback add_note
 
 BARRED_NODES = (
     ast.AsyncFunctionDef, ast.Global, ast.Yield, ast.YieldFrom, ast.Await, ast.With, ast.Div, ast.Import, ast.Lambda,
+    ast.GeneratorExp, ast.Try, ast.Match, ast.NamedExpr, ast.Set, ast.SetComp, ast.Starred,
 )
+
+# The methods of builtin values that the package calls; each is one that the subset allows.
+BUILTIN_METHODS = "append extend remove get items values join split".split()
 
 
 def bound_names(tree):
@@ -84,6 +96,42 @@ class Language(unittest.TestCase):
             own = [row.name for row in tree.body if isinstance(row, (ast.FunctionDef, ast.ClassDef))]
             for name in names:
                 self.assertIn(name, own)
+
+    def test_methods_stand_in_the_class_itself(self):
+        tree = ast.parse((FOLDER / "buses.py").read_text())
+        bodies = [row.body for row in tree.body if isinstance(row, ast.ClassDef) and row.name == "Bus"]
+        own = [row.name for row in bodies[0] if isinstance(row, ast.FunctionDef)]
+        for name in BUS_METHODS:
+            self.assertEqual(own.count(name), 1, name)
+
+    def test_only_known_methods_are_called(self):
+        for path in FILES:
+            for node in ast.walk(ast.parse(path.read_text())):
+                if isinstance(node, ast.Call) and isinstance(node.func, ast.Attribute):
+                    name = node.func.attr
+                    self.assertTrue(name in BUILTIN_METHODS or name.startswith("_") or name in BUS_METHODS, (path, name))
+
+    def test_sets_are_measured_only(self):
+        for path in FILES:
+            tree = ast.parse(path.read_text())
+            measured = [
+                node.args[0] for node in ast.walk(tree)
+                if isinstance(node, ast.Call) and isinstance(node.func, ast.Name) and node.func.id == "len"
+            ]
+            for node in ast.walk(tree):
+                if isinstance(node, ast.Call) and isinstance(node.func, ast.Name) and node.func.id == "set":
+                    self.assertIn(node, measured, path)
+
+    def test_no_two_files_import_each_other(self):
+        needs = {}
+        for path in FILES:
+            rows = [node for node in ast.walk(ast.parse(path.read_text())) if isinstance(node, ast.ImportFrom)]
+            needs[path.stem] = {row.module.split(".")[1] for row in rows}
+        while needs:
+            free = [name for name, others in needs.items() if not others & set(needs)]
+            self.assertTrue(free, needs)
+            for name in free:
+                del needs[name]
 
     def test_names(self):
         taken = set(dir(builtins))
